@@ -1,0 +1,1 @@
+"""Rows of yes and no, and papers that show what cannot be."""
