@@ -5,9 +5,16 @@ def is_met(side, filling):
     return filling[side // 2] == (side % 2 == 0)
 
 
+def other_side(side):
+    return side + 1 if side % 2 == 0 else side - 1
+
+
+def met_weight(terms, filling):
+    return sum([weight for weight, side in terms if is_met(side, filling)])
+
+
 def holds(row, filling):
-    met = [weight for weight, side in row[0] if is_met(side, filling)]
-    return sum(met) >= row[1]
+    return met_weight(row[0], filling) >= row[1]
 
 
 def weights_by_side(terms):

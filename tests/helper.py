@@ -1,6 +1,8 @@
-"""What several tests need: fillings, rows, and the lists within a value."""
+"""What several tests need: fillings, rows, checks of papers, and the lists within a value."""
 
 import itertools
+
+from cutpaper.papers import lines, shows
 
 
 def fillings(unknowns):
@@ -42,12 +44,67 @@ def chance_row(chance, unknowns, most_terms, most_weight, most_least):
 def holds_by_words(row, filling):
     """Point 2 once more, written apart from the program."""
     terms, least = row
+    return worth_by_words(terms, filling) >= least
+
+
+def meeting_by_words(unknowns, rows):
+    """Every filling of which all rows hold, found by trying each one."""
+    return [filling for filling in fillings(unknowns) if all(holds_by_words(row, filling) for row in rows)]
+
+
+def worth_by_words(terms, filling):
+    """Point 9 once more, written apart from the program."""
     come_to = 0
     for weight, side in terms:
         unknown, is_no_side = divmod(side, 2)
         if filling[unknown] is (not is_no_side):
             come_to += weight
-    return come_to >= least
+    return come_to
+
+
+def turned_about(row):
+    """The row that holds of just the fillings of which this one does not."""
+    return ([(-weight, side) for weight, side in row[0]], 1 - row[1])
+
+
+def chance_rows(chance, unknowns, most_rows, most_terms, most_weight, most_least):
+    many = chance.randint(0, most_rows)
+    return [chance_row(chance, unknowns, most_terms, most_weight, most_least) for _ in range(many)]
+
+
+def rows_against_each_other(chance, unknowns, many, most_weight):
+    """Rows that ask for about half of the weights, some sides and some other sides: seldom met together."""
+    rows = []
+    for _ in range(many):
+        terms = [(chance.randint(1, most_weight), 2 * unknown + chance.randrange(2)) for unknown in range(unknowns)]
+        whole = sum(weight for weight, side in terms)
+        rows.append((terms, whole * chance.randint(35, 60) // 100))
+    return rows
+
+
+def check_filling(test, unknowns, filling):
+    test.assertIs(type(filling), list)
+    test.assertEqual(len(filling), unknowns)
+    for entry in filling:
+        test.assertIs(type(entry), bool)
+
+
+STEP_LENGTHS = {"given": 2, "side": 2, "add": 3, "times": 3, "cut": 3, "size": 2}
+
+
+def check_paper(test, rows, paper):
+    """The form of point 5, within the bounds of points 5 and 6, and that the paper shows that nothing meets all."""
+    test.assertIs(type(paper), list)
+    test.assertLessEqual(len(paper), 20000)
+    for step in paper:
+        test.assertIs(type(step), tuple)
+        test.assertEqual(len(step), STEP_LENGTHS[step[0]], step)
+        for part in step[1:]:
+            test.assertIs(type(part), int)
+    last = lines(rows, paper)[-1]
+    test.assertEqual(last[0], [])
+    test.assertGreaterEqual(last[1], 1)
+    test.assertIs(shows(rows, paper), True)
 
 
 def lists_within(value):

@@ -35,6 +35,7 @@ UNUSED = set(
     " copyright credits delattr dir eval exec exit gc getattr globals hasattr help id importlib license locals"
     " methodcaller os quit setattr super type vars sys chr format format_map print".split()
 )
+WALKED_AT_ONCE = ["zip", "enumerate", "reversed", "range", "items", "keys", "values"]
 MODULES = sorted(PACKAGE.glob("*.py"))
 
 
@@ -56,6 +57,10 @@ def bound_names(tree):
 
 def imported_names(tree):
     return [name.name for node in ast.walk(tree) if isinstance(node, ast.ImportFrom) for name in node.names]
+
+
+def called_name(node):
+    return node.func.id if isinstance(node.func, ast.Name) else node.func.attr
 
 
 class Language(unittest.TestCase):
@@ -163,6 +168,88 @@ class Language(unittest.TestCase):
                 if isinstance(part, ast.Assign):
                     top.append(part.targets[0].id)
             self.assertEqual(len(top), len(set(top)), path)
+
+    def test_is_stands_beside_none_true_and_false(self):
+        for path in MODULES:
+            for node in ast.walk(tree_of(path)):
+                if isinstance(node, ast.Compare):
+                    for operator, beside in zip(node.ops, node.comparators):
+                        if isinstance(operator, (ast.Is, ast.IsNot)):
+                            self.assertIsInstance(beside, ast.Constant, (path.name, node.lineno))
+                            self.assertIn(beside.value, (None, True, False))
+
+    def test_keywords(self):
+        allowed = {"sorted": ["key", "reverse"], "min": ["key", "default"], "max": ["key", "default"]}
+        allowed.update({"sum": ["start"], "enumerate": ["start"], "zip": ["strict"]})
+        for path in MODULES:
+            for node in ast.walk(tree_of(path)):
+                if isinstance(node, ast.Call) and isinstance(node.func, ast.Name) and node.func.id in OWN_NAMES:
+                    for keyword in node.keywords:
+                        self.assertIn(keyword.arg, allowed.get(node.func.id, []), (path.name, node.lineno))
+
+    def test_walked_at_once(self):
+        walkers = ["list", "tuple", "dict", "sorted", "sum", "any", "all", "enumerate", "zip", "min", "max"]
+        for path in MODULES:
+            tree = tree_of(path)
+            walked = []
+            for node in ast.walk(tree):
+                if isinstance(node, (ast.For, ast.comprehension)):
+                    walked.append(node.iter)
+                if isinstance(node, ast.Call) and isinstance(node.func, ast.Name) and node.func.id in walkers:
+                    walked += node.args
+                if isinstance(node, ast.Call) and isinstance(node.func, ast.Attribute) and node.func.attr == "join":
+                    self.assertIsInstance(node.func.value, ast.Constant, (path.name, node.lineno))
+                    walked += node.args
+            for node in ast.walk(tree):
+                if isinstance(node, ast.Call) and called_name(node) in WALKED_AT_ONCE:
+                    self.assertIn(node, walked, (path.name, node.lineno))
+
+    def test_sets_are_not_kept(self):
+        for path in MODULES:
+            tree = tree_of(path)
+            passing = []
+            for node in ast.walk(tree):
+                if isinstance(node, ast.Compare):
+                    passing += [node.left] + node.comparators
+                if isinstance(node, ast.Call) and called_name(node) in ["sorted", "len"]:
+                    passing += node.args
+            for node in ast.walk(tree):
+                if isinstance(node, ast.Set) or isinstance(node, ast.Call) and called_name(node) == "set":
+                    self.assertIn(node, passing, (path.name, node.lineno))
+
+    def test_numbers_and_texts(self):
+        for path in MODULES:
+            for node in ast.walk(tree_of(path)):
+                if isinstance(node, ast.BinOp) and isinstance(node.op, ast.Pow):
+                    self.assertIsInstance(node.right, ast.Constant, (path.name, node.lineno))
+                    self.assertIn(node.right.value, range(65))
+                if isinstance(node, ast.Constant) and isinstance(node.value, str):
+                    self.assertNotIn("%", node.value)
+                if isinstance(node, ast.FormattedValue):
+                    self.assertIsInstance(node.value, ast.Name, (path.name, node.lineno))
+
+    def test_the_top_of_a_module(self):
+        for path in MODULES:
+            tree = tree_of(path)
+            for part in tree.body[1:]:
+                kinds = (ast.ImportFrom, ast.FunctionDef, ast.ClassDef, ast.Assign)
+                self.assertIsInstance(part, kinds, (path.name, part.lineno))
+                if isinstance(part, ast.Assign):
+                    ast.literal_eval(part.value)
+            for node in ast.walk(tree):
+                if isinstance(node, (ast.ImportFrom, ast.ClassDef)):
+                    self.assertIn(node, tree.body, (path.name, node.lineno))
+
+    def test_no_two_files_draw_from_one_another(self):
+        drawn = {}
+        for path in MODULES:
+            nodes = [node for node in ast.walk(tree_of(path)) if isinstance(node, ast.ImportFrom)]
+            drawn["cutpaper." + path.stem] = sorted(set(node.module for node in nodes))
+        while drawn:
+            free = [name for name in drawn if not any(other in drawn for other in drawn[name])]
+            self.assertNotEqual(free, [], drawn)
+            for name in free:
+                del drawn[name]
 
 
 if __name__ == "__main__":
